@@ -1,0 +1,1 @@
+"""Neartwins: how far apart the rooms of a chance machine are."""
