@@ -18,6 +18,8 @@ METHODS = set(
     "setdefault split splitlines startswith strip update upper values zfill bit_length add discard sort".split()
 )
 DOUBLED = {"__init__", "__eq__", "__repr__", "__str__", "__len__"}
+LAZY = {"range", "zip", "enumerate", "reversed", "items", "keys", "values"}
+ITERATING = {"list", "tuple", "dict", "sorted", "sum", "any", "all", "enumerate", "zip", "min", "max"}
 BARRED = re.compile(
     r"\b(type|typing|typing_extensions|enum|Enum|IntEnum|StrEnum|Flag|IntFlag|Generic|Protocol|ABC|ABCMeta|namedtuple"
     r"|NamedTuple|TypedDict|TYPE_CHECKING|abstractmethod)\b|dataclass|overload|contextmanager"
@@ -58,6 +60,17 @@ def bound_within(function):
     return names | {
         each.id for each in ast.walk(function) if isinstance(each, ast.Name) and isinstance(each.ctx, ast.Store)
     }
+
+
+def iterated_at_once(tree):
+    """The calls that stand where what they give is iterated on the spot."""
+    found = []
+    for node in ast.walk(tree):
+        if isinstance(node, (ast.For, ast.comprehension)):
+            found.append(node.iter)
+        elif isinstance(node, ast.Call) and isinstance(node.func, ast.Name) and node.func.id in ITERATING:
+            found.extend(node.args)
+    return found
 
 
 class Files(unittest.TestCase):
@@ -137,6 +150,15 @@ class Trees(unittest.TestCase):
                 if isinstance(sign, (ast.Is, ast.IsNot)):
                     self.assertIsInstance(other, ast.Constant, name)
                     self.assertIn(other.value, (None, True, False), name)
+
+    def test_nothing_lazy_is_kept(self):
+        for name, tree in self.trees.items():
+            at_once = iterated_at_once(tree)
+            for node in ast.walk(tree):
+                if isinstance(node, ast.Call):
+                    called = node.func.id if isinstance(node.func, ast.Name) else getattr(node.func, "attr", "")
+                    if called in LAZY:
+                        self.assertIn(node, at_once, (name, node.lineno))
 
     def test_names(self):
         for name, tree in self.trees.items():

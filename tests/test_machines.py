@@ -3,10 +3,10 @@
 import copy
 import unittest
 
-from neartwins.errors import NoMachine, NoRoom
+from neartwins.errors import NoMachine
 from neartwins.machines import Machine, is_mark
 from tests.things import (
-    NO_FRACTIONS, NO_LISTS, NO_MARKS, NO_WHOLES, Odd, check_left_alone, check_own_lists, coins, one_room, one_way,
+    NO_FRACTIONS, NO_LISTS, NO_MARKS, Odd, check_left_alone, check_no_room, check_own_lists, coins, one_room, one_way,
     sample_machines, six_rooms, unlike_lengths, with_each_place,
 )
 
@@ -108,11 +108,8 @@ class Telling(unittest.TestCase):
 
     def test_no_rooms(self):
         for machine in sample_machines():
-            for room in [-1, -len(machine), len(machine), len(machine) + 1, 10 ** 59] + NO_WHOLES:
-                for ask in (machine.mark, machine.shares_of):
-                    with self.assertRaises(NoRoom) as caught:
-                        ask(room)
-                    self.assertIs(caught.exception.room, room)
+            check_no_room(self, machine, machine.mark)
+            check_no_room(self, machine, machine.shares_of)
 
     def test_methods_stand_in_the_class(self):
         for name in ("marks", "shares", "mark", "shares_of", "__eq__", "__len__", "__repr__", "__str__"):
@@ -293,10 +290,8 @@ class OwnCopies(unittest.TestCase):
     def test_refusals_change_nothing(self):
         machine = coins()
         kept = copy.deepcopy(machine)
-        for room in NO_WHOLES + [-1, 3]:
-            for ask in (machine.mark, machine.shares_of):
-                with self.assertRaises(NoRoom):
-                    ask(room)
+        check_no_room(self, machine, machine.mark)
+        check_no_room(self, machine, machine.shares_of)
         self.assertEqual(machine, kept)
         self.assertEqual(repr(machine), repr(kept))
 

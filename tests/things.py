@@ -3,6 +3,7 @@
 import copy
 from fractions import Fraction
 
+from neartwins.errors import NoMachine, NoRoom
 from neartwins.machines import Machine
 
 
@@ -47,6 +48,11 @@ NO_LISTS = [
 NO_MARKS = [
     True, False, None, 0, 1, "", "abcde", "abcdef", "A", "aB", "a1", "1", " ", "a ", " a", "a b", "a-", "-", "`", "{",
     "a{", "`a", "a\n", "\t", b"a", [], ["a"], (), ("a",), {}, {"a": 1}, object(), Odd(), str,
+]
+
+
+NO_MACHINES = NO_LISTS + [
+    [], ["a"], (["a"], [[(1, 1)]]), [["a"], [[(1, 1)]]], "Machine(['a'], [[(1, 1)]])", "a 0:1", (1, 1), Machine,
 ]
 
 
@@ -98,6 +104,28 @@ def six_rooms():
 def sample_machines():
     """One machine of each sample."""
     return [one_room(), coins(), one_way(), six_rooms()]
+
+
+def spread_evenly(onward):
+    """A machine whose rooms all have unlike marks and go on evenly to the rooms that onward lists for each."""
+    rooms = range(len(onward))
+    return Machine(
+        ["abcdef"[room] for room in rooms],
+        [[(1, len(onward[room])) if to in onward[room] else (0, 1) for to in rooms] for room in rooms],
+    )
+
+
+def all_walks(machine, room, many):
+    """Each walk through so many rooms, with the chance of it: the slow way to reckon, which the program never goes."""
+    walks = [([room], Fraction(1))]
+    for step in range(many - 1):
+        walks = [
+            (walk + [to], each * number_of(share))
+            for walk, each in walks
+            for to, share in enumerate(machine.shares_of(walk[-1]))
+            if share != (0, 1)
+        ]
+    return walks
 
 
 def pair(number):
@@ -164,3 +192,19 @@ def check_left_alone(test, call, *handed):
     except (ValueError, IndexError):
         pass
     test.assertEqual(repr(handed), before)
+
+
+def check_no_machine(test, call, *behind):
+    """That whatever is no machine is refused as the first argument, whatever stands behind it."""
+    for thing in NO_MACHINES:
+        with test.assertRaises(NoMachine) as caught:
+            call(thing, *behind)
+        test.assertEqual((caught.exception.part, caught.exception.number), ("machine", None))
+
+
+def check_no_room(test, machine, call):
+    """That whatever is no room of this machine is refused by the call, with what was handed in."""
+    for room in [-1, -len(machine), len(machine), len(machine) + 1, 10 ** 59] + NO_WHOLES:
+        with test.assertRaises(NoRoom) as caught:
+            call(room)
+        test.assertIs(caught.exception.room, room)
