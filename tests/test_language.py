@@ -25,6 +25,7 @@ BARRED = re.compile(
     r"|NamedTuple|TypedDict|TYPE_CHECKING|abstractmethod)\b|dataclass|overload|contextmanager"
 )
 STATEMENTS = (ast.ImportFrom, ast.FunctionDef, ast.ClassDef, ast.Assign)
+# The language lets some of these by, under narrow rules; the program does without, so that none of those need checking.
 UNUSED = (
     ast.Global, ast.AsyncFunctionDef, ast.AsyncFor, ast.AsyncWith, ast.Await, ast.Import, ast.Div, ast.GeneratorExp,
     ast.SetComp, ast.Try, ast.AnnAssign, ast.NamedExpr, ast.Lambda, ast.Yield, ast.YieldFrom,
