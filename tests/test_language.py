@@ -1,4 +1,4 @@
-"""Those rules of the language that a look at each file's tree can check."""
+"""A part of the language's rules: those that are easily checked on the text and the tree of each file."""
 
 import ast
 import builtins
