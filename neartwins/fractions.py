@@ -83,9 +83,16 @@ def apart(one, other):
     return minus(one, other)
 
 
+def common(some):
+    """The tops of a list of fractions that are brought to one bottom, the least they have together, and that bottom."""
+    bottom = 1
+    for each in some:
+        bottom = bottom * (each[1] // greatest_divisor(bottom, each[1]))
+    return [each[0] * (bottom // each[1]) for each in some], bottom
+
+
 def total(some, start=None):
     """The sum of a list of fractions and of start, nought where that is None."""
-    result = NOUGHT if start is None else start
-    for each in some:
-        result = plus(result, each)
-    return result
+    # To reduce once at the end is far quicker than to reduce each sum on the way.
+    tops, bottom = common(list(some) if start is None else [start] + list(some))
+    return reduced(sum(tops), bottom)

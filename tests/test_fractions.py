@@ -7,7 +7,7 @@ from neartwins.errors import NoDivisor, NoNumber
 from neartwins.fractions import (
     apart, fraction, is_fraction, is_whole, minus, over, plus, times, total, under,
 )
-from tests.things import NO_FRACTIONS, NO_WHOLES, check_left_alone, number_of, pair
+from tests.things import NO_FRACTIONS, NO_WHOLES, check_in_good_time, check_left_alone, number_of, pair
 
 LONG = 10 ** 60 - 1
 WHOLES = [0, 1, -1, 2, -2, 3, 4, 6, -6, 7, 12, 35, -100, 999, 1000, LONG, -LONG, LONG - 1, 2 ** 190, 3 ** 120]
@@ -133,6 +133,11 @@ class Totals(unittest.TestCase):
             self.assertEqual(total(some), pair(reckoned))
             self.assertEqual(total(some, None), pair(reckoned))
             self.assertEqual(total(some, (-5, 7)), pair(reckoned + Fraction(-5, 7)))
+
+    def test_of_a_long_list_in_good_time(self):
+        some = [(1, bottom) for bottom in range(1, 2001)]
+        told = check_in_good_time(self, lambda: total(some, (-1, 1)))
+        self.assertEqual(told, pair(sum([Fraction(1, bottom) for bottom in range(2, 2001)], Fraction(0))))
 
     def test_by_names(self):
         self.assertEqual(total(start=(1, 2), some=[(1, 3), (1, 6)]), (1, 1))

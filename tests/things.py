@@ -1,9 +1,11 @@
 """What several tests need: things of all kinds, sample machines, and a second way to reckon."""
 
 import copy
+import random
+import time
 from fractions import Fraction
 
-from neartwins.errors import NoMachine, NoRoom
+from neartwins.errors import NoFade, NoMachine, NoRoom
 from neartwins.machines import Machine
 
 
@@ -55,6 +57,13 @@ NO_MACHINES = NO_LISTS + [
     [], ["a"], (["a"], [[(1, 1)]]), [["a"], [[(1, 1)]]], "Machine(['a'], [[(1, 1)]])", "a 0:1", (1, 1), Machine,
 ]
 
+# What no call takes as a fade; None is left out, since it means (1, 2).
+NO_FADES = [thing for thing in NO_FRACTIONS if thing is not None] + [
+    (0, 1), (1, 1), (2, 1), (3, 2), (-1, 2), (-1, 1), (1000, 999), (1, 1000), (999, 1000), (1, 10 ** 59),
+    (10 ** 59 - 1, 10 ** 59),
+]
+FADES = [(1, 2), (1, 999), (998, 999), (1, 3), (2, 3), (500, 999)]
+
 
 def one_room():
     """A machine of one room."""
@@ -101,9 +110,79 @@ def six_rooms():
     )
 
 
+def lasting():
+    """A machine for which the tables by steps never come to the distances: the first two rooms are at f / (2 - f)."""
+    return Machine(["a", "a", "b"], [[(1, 2), (0, 1), (1, 2)], [(0, 1), (1, 1), (0, 1)], [(0, 1), (0, 1), (1, 1)]])
+
+
+def chain():
+    """Six rooms, each of which goes on to the next one, the last to itself, which alone has another mark.
+
+    So room one and a later room other are at f multiplied by itself, 5 - other times in all.
+    """
+    rooms = range(6)
+    onward = [[(1, 1) if to == min(room + 1, 5) else (0, 1) for to in rooms] for room in rooms]
+    return Machine(["a", "a", "a", "a", "a", "b"], onward)
+
+
+def with_twins():
+    """Six rooms of which 0 and 3 are alike, and 1 and 4: they go on otherwise, but with like shares to lumps."""
+    return Machine(
+        ["a", "b", "a", "a", "b", "a"],
+        [
+            [(1, 2), (1, 4), (0, 1), (0, 1), (1, 4), (0, 1)],
+            [(0, 1), (0, 1), (1, 1), (0, 1), (0, 1), (0, 1)],
+            [(0, 1), (1, 3), (1, 3), (1, 3), (0, 1), (0, 1)],
+            [(1, 8), (1, 2), (0, 1), (3, 8), (0, 1), (0, 1)],
+            [(0, 1), (0, 1), (1, 1), (0, 1), (0, 1), (0, 1)],
+            [(0, 1), (2, 3), (1, 3), (0, 1), (0, 1), (0, 1)],
+        ],
+    )
+
+
+def great_figures():
+    """Six rooms, five with one mark, whose shares have three figures and unlike bottoms."""
+    primes = [331, 317, 313, 311, 307, 293, 283, 281, 277]
+    shares = []
+    for room in range(6):
+        row = []
+        for place in range(3):
+            prime = primes[(2 * room + 3 * place) % len(primes)]
+            part = 17 * room + 61 * place + 5
+            row += [pair(Fraction(part, 3 * prime)), pair(Fraction(prime - part, 3 * prime))]
+        shares.append(row[room:] + row[:room])
+    return Machine(["a"] * 5 + ["b"], shares)
+
+
+def random_shares(chance_source, many, bottom):
+    """So many fractions with this bottom or a divisor of it, together 1, some of them nought."""
+    tops = [0] * many
+    for part in range(min(bottom, 12)):
+        tops[chance_source.randrange(many)] += bottom // min(bottom, 12)
+    tops[chance_source.randrange(many)] += bottom - sum(tops)
+    return [pair(Fraction(top, bottom)) for top in tops]
+
+
+def random_machines(seed, often):
+    """So many machines of 2 to 6 rooms, always the same ones for a seed."""
+    source = random.Random(seed)
+    found = []
+    for each in range(often):
+        many = source.choice([2, 3, 4, 5, 6, 6])
+        marks = [source.choice(["a", "a", "b"]) for room in range(many)]
+        bottoms = [source.choice([1, 2, 3, 4, 5, 10, 997, 999]) for room in range(many)]
+        found.append(Machine(marks, [random_shares(source, many, bottom) for bottom in bottoms]))
+    return found
+
+
 def sample_machines():
     """One machine of each sample."""
     return [one_room(), coins(), one_way(), six_rooms()]
+
+
+def telling_machines():
+    """The samples, and those whose distances are of more interest."""
+    return sample_machines() + [lasting(), chain(), with_twins(), great_figures()]
 
 
 def spread_evenly(onward):
@@ -208,3 +287,77 @@ def check_no_room(test, machine, call):
         with test.assertRaises(NoRoom) as caught:
             call(room)
         test.assertIs(caught.exception.room, room)
+
+
+def check_fades(test, call):
+    """That whatever is no fade is refused, by place and by name, and that (1, 2) is meant where there is none."""
+    for thing in NO_FADES:
+        with test.assertRaises(NoFade):
+            call(thing)
+        with test.assertRaises(NoFade):
+            call(fade=thing)
+    half = call((1, 2))
+    test.assertEqual([call(), call(None), call(fade=None), call(fade=(1, 2))], [half] * 4)
+
+
+def check_in_good_time(test, ask):
+    """What is told, which must not be long in coming; the bound is wide, for slow machines."""
+    start = time.perf_counter()
+    told = ask()
+    test.assertLess(time.perf_counter() - start, 10)
+    return told
+
+
+def like_rooms(machine):
+    """All two rooms, the lesser first, with like marks, in their order."""
+    rooms = range(len(machine))
+    marks = machine.marks()
+    return [(one, other) for one in rooms for other in rooms if one < other and marks[one] == marks[other]]
+
+
+def cost_of(table, carrying):
+    """What a carrying costs, reckoned by Python's own fractions."""
+    places = range(len(table))
+    return sum(
+        [number_of(table[one][other]) * number_of(carrying[one][other]) for one in places for other in places],
+        Fraction(0),
+    )
+
+
+def earned_by(ones, others, prices):
+    """What prices earn, reckoned by Python's own fractions."""
+    return sum(
+        [number_of(price) * (number_of(one) - number_of(other)) for one, other, price in zip(ones, others, prices)],
+        Fraction(0),
+    )
+
+
+def check_carrying(test, ones, others, carrying):
+    """That this is a carrying of ones onto others, by Python's own fractions."""
+    numbers = [[number_of(each) for each in row] for row in carrying]
+    test.assertEqual(carrying, [[pair(each) for each in row] for row in numbers])
+    test.assertTrue(all(each >= 0 for row in numbers for each in row))
+    test.assertEqual([pair(sum(row)) for row in numbers], ones)
+    test.assertEqual([pair(sum(column)) for column in zip(*numbers)], others)
+
+
+def check_prices(test, table, prices):
+    """That these are prices for a table, all from 0 to 1, by Python's own fractions."""
+    numbers = [number_of(each) for each in prices]
+    test.assertEqual(prices, [pair(each) for each in numbers])
+    test.assertEqual(len(prices), len(table))
+    test.assertTrue(all(0 <= each <= 1 for each in numbers))
+    for one, row in zip(numbers, table):
+        for other, gap in zip(numbers, row):
+            test.assertLessEqual(abs(one - other), number_of(gap))
+
+
+def least_cost(test, ones, others, table, told):
+    """What a told cheapest carrying costs, when all is as it must be: so nothing else can cost less."""
+    test.assertIsInstance(told, tuple)
+    least, carrying, prices = told
+    check_carrying(test, ones, others, carrying)
+    check_prices(test, table, prices)
+    test.assertEqual(least, pair(cost_of(table, carrying)))
+    test.assertEqual(least, pair(earned_by(ones, others, prices)))
+    return number_of(least)

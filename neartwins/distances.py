@@ -1,0 +1,41 @@
+"""Distances: the table that is its own next one."""
+
+from neartwins.carryings import has_corners, is_table
+from neartwins.fractions import common
+from neartwins.machines import check_machine, check_room
+from neartwins.solving import solved
+from neartwins.tables import meant_fade, table_behind
+
+
+def distances(machine, fade=None):
+    """How far any two rooms are apart, a table."""
+    check_machine(machine)
+    return solved(machine, meant_fade(fade))
+
+
+def distance(machine, one, other, fade=None):
+    """How far two rooms are apart."""
+    check_machine(machine)
+    check_room(machine, one)
+    check_room(machine, other)
+    return solved(machine, meant_fade(fade))[one][other]
+
+
+def near(machine, room, fade=None):
+    """All other rooms as tuples (distance, room), the nearest first, of equally near ones the lesser room."""
+    check_machine(machine)
+    check_room(machine, room)
+    row = solved(machine, meant_fade(fade))[room]
+    tops = common(row)[0]
+    others = [other for other in range(len(row)) if other != room]
+    return [(row[other], other) for top, other in sorted([(tops[other], other) for other in others])]
+
+
+def are_distances(machine, thing, fade=None):
+    """Whether this, which may be anything, is the table of distances."""
+    check_machine(machine)
+    meant = meant_fade(fade)
+    if not is_table(len(machine), thing) or not has_corners(thing):
+        return False
+    # There is just one table that is its own next one.
+    return table_behind(machine, thing, meant) == thing
