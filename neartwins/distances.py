@@ -1,10 +1,10 @@
 """Distances: the table that is its own next one."""
 
-from neartwins.carryings import has_corners, is_table
+from neartwins.carryings import is_table
 from neartwins.fractions import common
 from neartwins.machines import check_machine, check_room
 from neartwins.solving import solved
-from neartwins.tables import meant_fade, table_behind
+from neartwins.tables import meant_fade
 
 
 def distances(machine, fade=None):
@@ -35,7 +35,4 @@ def are_distances(machine, thing, fade=None):
     """Whether this, which may be anything, is the table of distances."""
     check_machine(machine)
     meant = meant_fade(fade)
-    if not is_table(len(machine), thing) or not has_corners(thing):
-        return False
-    # There is just one table that is its own next one.
-    return table_behind(machine, thing, meant) == thing
+    return is_table(len(machine), thing) and thing == solved(machine, meant)

@@ -1,6 +1,7 @@
 """The cheapest carrying in whole numbers, and the prices that show that none is cheaper.
 
-A giver has more than it must have, a taker less; the gaps between places have corners throughout.
+A giver has more than it must have, a taker less. What can stay in its place does: nothing is cheaper than this where
+the gaps between places have corners, and prices are told for such gaps only.
 """
 
 
@@ -58,9 +59,8 @@ def carry_along(way, carrying, left):
 
 
 def cheapest_flow(ones, others, gaps):
-    """A cheapest carrying of ones onto others, whole numbers from 0 on of the same sum."""
+    """The cheapest carrying of ones onto others, whole numbers from 0 on of the same sum, that lets stay what can."""
     places = list(range(len(ones)))
-    # By corners nothing is gained where something is carried away from a place that something else is brought to.
     stays = [min(one, other) for one, other in zip(ones, others)]
     carrying = [[stays[place] if to == place else 0 for to in places] for place in places]
     left = [one - other for one, other in zip(ones, others)]

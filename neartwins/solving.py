@@ -1,10 +1,12 @@
 """The table that is its own next one, found from above.
 
 A carrying is chosen for each two rooms with like marks. The gaps that come of these, if nothing is ever carried
-otherwise, solve a set of equations; then ways by third rooms shorten the gaps, and by the shorter ones the cheapest
-carryings are chosen anew. No gap ever grows, and until nothing changes one shrinks each time, so that no choice comes
-twice; there are only so many, since what is carried stays a whole number of parts. Where nothing changes any more each
-carrying is the cheapest by the very gaps that it makes.
+otherwise, solve a set of equations; by these gaps the cheapest carryings are chosen anew. No gap ever grows, and until
+nothing changes one shrinks each time, so that no choice comes twice; there are only so many, since what is carried
+stays a whole number of parts. Where nothing changes any more each carrying is the cheapest by the very gaps it makes.
+
+Gaps on the way may have no corners. By such ones a flow is the cheapest only among those that let stay what can stay;
+but just one table is its own next one by these, too, and the distances, which have corners, are such a table.
 """
 
 from neartwins.cheapest import whole_shares
@@ -56,23 +58,6 @@ def squared(many, pairs, gaps, unlike):
     return rows
 
 
-def shortened(gaps):
-    """The greatest gaps with corners that are nowhere greater than these."""
-    places = list(range(len(gaps)))
-    rows = gaps
-    for third in places:
-        rows = [
-            [min([rows[one][other], rows[one][third] + rows[third][other]]) for other in places] for one in places
-        ]
-    return rows
-
-
-def bettered(many, pairs, equations):
-    """Whole gaps with corners that these equations make, and the number that stands for (1, 1)."""
-    tops, bottom = common(solution(equations))
-    return shortened(squared(many, pairs, tops, bottom)), bottom
-
-
 def solved(machine, fade):
     """The table of distances of a machine by a fade."""
     many = len(machine)
@@ -90,4 +75,5 @@ def solved(machine, fade):
         equations = [
             equation(pairs, pair, flow, parts[2], fade) for pair, flow, parts in zip(pairs, flows, parted)
         ]
-        gaps, bottom = bettered(many, pairs, equations)
+        tops, bottom = common(solution(equations))
+        gaps = squared(many, pairs, tops, bottom)

@@ -9,8 +9,8 @@ from neartwins.carryings import has_corners
 from neartwins.cheapest import cheapest, lets_cheapest
 from neartwins.errors import NoShares, NoTable
 from tests.things import (
-    NO_FRACTIONS, NO_LISTS, check_in_good_time, check_left_alone, check_own_lists, earned_by, least_cost, number_of,
-    pair, random_shares, unlike_lengths, with_each_place,
+    NO_FRACTIONS, NO_LISTS, changed_at, check_in_good_time, check_left_alone, check_own_lists, earned_by, even_table,
+    least_cost, number_of, pair, random_shares, unlike_lengths, with_each_place,
 )
 
 LONG = 10 ** 59
@@ -20,11 +20,6 @@ LINE = [[(0, 1), (1, 2), (1, 1)], [(1, 2), (0, 1), (1, 2)], [(1, 1), (1, 2), (0,
 BENT = [[(0, 1), (1, 4), (1, 1)], [(1, 4), (0, 1), (1, 4)], [(1, 1), (1, 4), (0, 1)]]
 CARRYING = [[(0, 1), (1, 4), (1, 4)], [(0, 1), (0, 1), (1, 2)], [(0, 1), (0, 1), (0, 1)]]
 TOLD = ((5, 8), CARRYING, [(1, 1), (1, 2), (0, 1)])
-
-
-def even_table(many, gap):
-    """The table that has this gap between any two places."""
-    return [[(0, 1) if one == other else gap for other in range(many)] for one in range(many)]
 
 
 def random_table(source, many, greatest):
@@ -79,6 +74,24 @@ class Cheapest(unittest.TestCase):
         others = [(0, 1), (0, 1), (1, 2), (1, 2)]
         self.assertTrue(has_corners(table))
         self.assertEqual(least_cost(self, ones, others, table, cheapest(ones, others, table)), Fraction(3, 10))
+
+    def test_takers_are_left_to_other_givers_all_along_a_chain(self):
+        # Places 1 and 2 give to 3 and 4 first; what 0 gives is cheapest where both of them go on by one taker each.
+        gaps = [[6, 10, 10], [5, 6, 10], [10, 5, 6]]
+        table = even_table(6, (1, 1))
+        for giver, row in enumerate(gaps):
+            for taker, tenths in enumerate(row):
+                table = changed_at(table, giver, 3 + taker, pair(Fraction(tenths, 10)))
+        self.assertTrue(has_corners(table))
+        for given, taken, least in (
+            ([1, 1, 1], [1, 1, 1], 18), ([5, 4, 3], [4, 3, 5], 79), ([5, 3, 4], [3, 4, 5], 79),
+            ([2, 5, 5], [5, 5, 2], 66),
+        ):
+            parts = sum(given)
+            ones = [pair(Fraction(part, parts)) for part in given] + [(0, 1)] * 3
+            others = [(0, 1)] * 3 + [pair(Fraction(part, parts)) for part in taken]
+            told = cheapest(ones, others, table)
+            self.assertEqual(least_cost(self, ones, others, table, told), Fraction(least, 10 * parts))
 
     def test_every_small_case_by_all_ways(self):
         source = random.Random(1)

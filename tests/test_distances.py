@@ -11,7 +11,7 @@ from neartwins.marks import apart_by_rows, chance
 from neartwins.tables import next_table, tables_by
 from neartwins.walking import renamed
 from tests.things import (
-    FADES, NO_FRACTIONS, NO_LISTS, chain, check_fades, check_in_good_time, check_left_alone,
+    FADES, NO_FRACTIONS, NO_LISTS, chain, changed_at, check_fades, check_in_good_time, check_left_alone,
     check_no_machine, check_no_room, check_own_lists, coins, great_figures, lasting, like_rooms, number_of, one_room,
     one_way, pair, random_machines, six_rooms, telling_machines, unlike_lengths, with_each_place, with_twins,
 )
@@ -20,13 +20,6 @@ from tests.things import (
 def numbers(table):
     """A table in Python's own fractions."""
     return [[number_of(gap) for gap in row] for row in table]
-
-
-def changed_at(table, one, other, gap):
-    """A table like this one, but for two rooms."""
-    changed = [list(row) for row in table]
-    changed[one][other] = changed[other][one] = gap
-    return changed
 
 
 class Distances(unittest.TestCase):

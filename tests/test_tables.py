@@ -10,19 +10,13 @@ from neartwins.cheapest import cheapest
 from neartwins.errors import NoNumber, NoTable
 from neartwins.tables import is_fade, next_table, tables_by
 from tests.things import (
-    FADES, NO_FADES, NO_FRACTIONS, NO_LISTS, NO_WHOLES, chain, check_fades, check_in_good_time,
-    check_left_alone, check_no_machine, check_own_lists, coins, great_figures, lasting, least_cost, number_of, one_room,
+    FADES, NO_FADES, NO_FRACTIONS, NO_LISTS, NO_WHOLES, chain, check_fades, check_in_good_time, check_left_alone,
+    check_no_machine, check_own_lists, coins, even_table, great_figures, lasting, least_cost, number_of, one_room,
     pair, random_machines, six_rooms, telling_machines, unlike_lengths, with_each_place, with_twins,
 )
 
 NO_STEPS = [-1, 9, 10, 12, 10 ** 59, -10 ** 59] + NO_WHOLES
 BENT = [[(0, 1), (1, 4), (1, 1)], [(1, 4), (0, 1), (1, 4)], [(1, 1), (1, 4), (0, 1)]]
-
-
-def even_table(machine, gap):
-    """The table that has this gap between any two rooms."""
-    rooms = range(len(machine))
-    return [[(0, 1) if one == other else gap for other in rooms] for one in rooms]
 
 
 def random_corners(source, many):
@@ -70,9 +64,9 @@ class Fades(unittest.TestCase):
 class NextTable(unittest.TestCase):
     def test_by_hand(self):
         machine = lasting()
-        ones = even_table(machine, (1, 1))
+        ones = even_table(len(machine), (1, 1))
         self.assertEqual(next_table(machine, ones, (1, 2))[0], [(0, 1), (1, 2), (1, 1)])
-        noughts = even_table(machine, (0, 1))
+        noughts = even_table(len(machine), (0, 1))
         first = [[(0, 1), (0, 1), (1, 1)], [(0, 1), (0, 1), (1, 1)], [(1, 1), (1, 1), (0, 1)]]
         self.assertEqual(next_table(machine, noughts, (1, 2)), first)
         second = [[(0, 1), (1, 4), (1, 1)], [(1, 4), (0, 1), (1, 1)], [(1, 1), (1, 1), (0, 1)]]
@@ -82,14 +76,14 @@ class NextTable(unittest.TestCase):
         self.assertEqual(next_table(one_room(), [[(0, 1)]]), [[(0, 1)]])
 
     def test_unlike_marks_are_at_one_whatever_the_table_has(self):
-        told = next_table(coins(), even_table(coins(), (0, 1)))
+        told = next_table(coins(), even_table(len(coins()), (0, 1)))
         self.assertEqual(told, [[(0, 1), (1, 1), (0, 1)], [(1, 1), (0, 1), (1, 1)], [(0, 1), (1, 1), (0, 1)]])
 
     def test_many_tables(self):
         source = random.Random(6)
         for machine in telling_machines() + random_machines(7, 12):
             many = len(machine)
-            tables = [even_table(machine, (0, 1)), even_table(machine, (1, 1)), even_table(machine, (2, 7))]
+            tables = [even_table(many, gap) for gap in ((0, 1), (1, 1), (2, 7))]
             for table in tables + [random_corners(source, many)]:
                 for fade in FADES[:3]:
                     told = check_in_good_time(self, lambda: next_table(machine, table, fade))
@@ -108,11 +102,11 @@ class NextTable(unittest.TestCase):
 
     def test_refusals_and_their_order(self):
         machine = coins()
-        table = even_table(machine, (1, 1))
+        table = even_table(len(machine), (1, 1))
         check_no_machine(self, next_table, table, (1, 2))
         check_no_machine(self, next_table, None, 0)
         wrong = NO_LISTS + unlike_lengths(table) + [tuple(table), [tuple(row) for row in table], BENT]
-        wrong += [even_table(machine, (2, 1)), even_table(machine, (-1, 2)), even_table(chain(), (1, 1))]
+        wrong += [even_table(len(machine), (2, 1)), even_table(len(machine), (-1, 2)), even_table(len(chain()), (1, 1))]
         wrong += [changed for place, thing, changed in with_each_place(table, NO_LISTS)]
         for place, row in enumerate(table):
             for at, thing, changed in with_each_place(row, NO_FRACTIONS + [(1, 5)]):
@@ -125,10 +119,10 @@ class NextTable(unittest.TestCase):
 
     def test_own_lists_and_names(self):
         for machine in telling_machines():
-            table = even_table(machine, (1, 1))
+            table = even_table(len(machine), (1, 1))
             check_own_lists(self, lambda: next_table(machine, table))
             check_left_alone(self, next_table, machine, table, (1, 3))
-        table = even_table(coins(), (1, 1))
+        table = even_table(len(coins()), (1, 1))
         self.assertEqual(next_table(fade=(1, 3), table=table, machine=coins()), next_table(coins(), table, (1, 3)))
 
 
@@ -145,7 +139,7 @@ class TablesBy(unittest.TestCase):
             for fade in FADES[:3]:
                 tables = check_in_good_time(self, lambda: tables_by(machine, 8, fade))
                 self.assertEqual(len(tables), 9)
-                self.assertEqual(tables[0], even_table(machine, (0, 1)))
+                self.assertEqual(tables[0], even_table(len(machine), (0, 1)))
                 for former, later in zip(tables, tables[1:]):
                     self.assertEqual(later, next_table(machine, former, fade))
                     check_next(self, machine, former, fade, later)

@@ -308,6 +308,18 @@ def check_in_good_time(test, ask):
     return told
 
 
+def even_table(many, gap):
+    """The table for so many places that has this gap between any two."""
+    return [[(0, 1) if one == other else gap for other in range(many)] for one in range(many)]
+
+
+def changed_at(table, one, other, gap):
+    """A table like this one, but for two places."""
+    changed = [list(row) for row in table]
+    changed[one][other] = changed[other][one] = gap
+    return changed
+
+
 def like_rooms(machine):
     """All two rooms, the lesser first, with like marks, in their order."""
     rooms = range(len(machine))
