@@ -27,10 +27,9 @@ def parted_again(shares, parting):
     return parted_by([(number_in(parting, room), shares_into(row, parting)) for room, row in enumerate(shares)])
 
 
-def rounds_of(machine):
-    """What rounds tells, of a Machine."""
-    shares = machine.shares()
-    partings = [parted_by(machine.marks())]
+def rounds_of(marks, shares):
+    """What rounds tells, of the marks and the shares of however many rooms."""
+    partings = [parted_by(marks)]
     finer = parted_again(shares, partings[-1])
     while finer != partings[-1]:
         partings.append(finer)
@@ -38,16 +37,21 @@ def rounds_of(machine):
     return partings
 
 
+def greatest_lumps(machine):
+    """What lumps tells, of a Machine."""
+    return rounds_of(machine.marks(), machine.shares())[-1]
+
+
 def rounds(machine):
     """The partings of the rooms: by marks alone, then each by the one ahead and the shares that go on to its lists."""
     check_machine(machine)
-    return rounds_of(machine)
+    return rounds_of(machine.marks(), machine.shares())
 
 
 def lumps(machine):
     """The greatest lumps."""
     check_machine(machine)
-    return rounds_of(machine)[-1]
+    return greatest_lumps(machine)
 
 
 def alike(machine, one, other):
@@ -55,7 +59,7 @@ def alike(machine, one, other):
     check_machine(machine)
     check_room(machine, one)
     check_room(machine, other)
-    greatest = rounds_of(machine)[-1]
+    greatest = greatest_lumps(machine)
     return number_in(greatest, one) == number_in(greatest, other)
 
 

@@ -373,3 +373,40 @@ def least_cost(test, ones, others, table, told):
     test.assertEqual(least, pair(cost_of(table, carrying)))
     test.assertEqual(least, pair(earned_by(ones, others, prices)))
     return number_of(least)
+
+
+def random_rows(source, many):
+    """So many rows of a sheet, each but the first few mostly made of rows shortly ahead of it."""
+    rows = [("mark", "a"), ("mark", "b")][:many]
+    while len(rows) < many:
+        one = max(source.randrange(len(rows)), source.randrange(len(rows)))
+        other = source.randrange(len(rows))
+        cut = pair(Fraction(source.randrange(4), source.choice([3, 4, 7, 50, 999])))
+        rows.append(source.choice([
+            ("mark", source.choice(["a", "b", "zzzz"])), ("next", one), ("next", one), ("not", one), ("less", one, cut),
+            ("least", one, other), ("most", one, other), ("most", other, one),
+        ]))
+    return rows
+
+
+def values_by_hand(rows, machine, fade):
+    """The values of a sheet's rows, reckoned by Python's own fractions."""
+    told = []
+    for word, *parts in rows:
+        if word == "mark":
+            told.append([Fraction(mark == parts[0]) for mark in machine.marks()])
+            continue
+        ones = told[parts[0]]
+        if word == "next":
+            told.append([
+                number_of(fade) * sum([number_of(share) * value for share, value in zip(row, ones)], Fraction(0))
+                for row in machine.shares()
+            ])
+        elif word == "not":
+            told.append([1 - value for value in ones])
+        elif word == "less":
+            told.append([max(value - number_of(parts[1]), Fraction(0)) for value in ones])
+        else:
+            pick = min if word == "least" else max
+            told.append([pick(value, other) for value, other in zip(ones, told[parts[1]])])
+    return told
