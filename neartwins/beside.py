@@ -3,15 +3,9 @@
 from neartwins.errors import TooMany
 from neartwins.fractions import NOUGHT
 from neartwins.lumps import number_in, rounds_of
-from neartwins.machines import MOST_ROOMS, Machine, check_machine
+from neartwins.machines import MOST_ROOMS, Machine, check_machines
 from neartwins.solving import solved
 from neartwins.tables import meant_fade
-
-
-def check_machines(one, other):
-    """Refuse two things of which one is no Machine."""
-    check_machine(one)
-    check_machine(other)
 
 
 def noughts(machine):

@@ -21,14 +21,19 @@ def distance(machine, one, other, fade=None):
     return solved(machine, meant_fade(fade))[one][other]
 
 
+def by_distance(table, room):
+    """What near tells of a room, by the table of distances."""
+    row = table[room]
+    tops = common(row)[0]
+    others = [other for other in range(len(row)) if other != room]
+    return [(row[other], other) for top, other in sorted([(tops[other], other) for other in others])]
+
+
 def near(machine, room, fade=None):
     """All other rooms as tuples (distance, room), the nearest first, of equally near ones the lesser room."""
     check_machine(machine)
     check_room(machine, room)
-    row = solved(machine, meant_fade(fade))[room]
-    tops = common(row)[0]
-    others = [other for other in range(len(row)) if other != room]
-    return [(row[other], other) for top, other in sorted([(tops[other], other) for other in others])]
+    return by_distance(solved(machine, meant_fade(fade)), room)
 
 
 def are_distances(machine, thing, fade=None):

@@ -53,6 +53,12 @@ def check_machine(thing):
         raise NoMachine("machine", None)
 
 
+def check_machines(one, other):
+    """Refuse two things of which one is no Machine."""
+    check_machine(one)
+    check_machine(other)
+
+
 def check_room(machine, room):
     """Refuse what is no number of a room of this machine."""
     if not is_whole_within(room, 0, len(machine) - 1):

@@ -410,3 +410,26 @@ def values_by_hand(rows, machine, fade):
             pick = min if word == "least" else max
             told.append([pick(value, other) for value, other in zip(ones, told[parts[1]])])
     return told
+
+
+def random_twins(seed, often):
+    """So many tuples of two machines with the same marks, of which some or all rooms have other shares."""
+    source = random.Random(seed)
+    found = []
+    for machine in random_machines(seed, often):
+        many = len(machine)
+        shares = machine.shares()
+        for room in source.sample(range(many), source.randrange(1, many + 1)):
+            if source.randrange(2):
+                shares[room] = random_shares(source, many, source.choice([1, 3, 10, 999]))
+            else:
+                shares[room] = shares[room][1:] + shares[room][:1]
+        found.append((machine, Machine(machine.marks(), shares)))
+    return found
+
+
+def greatest_gap(table, other):
+    """How far two tables are apart at most, by Python's own fractions."""
+    return max(
+        abs(number_of(gap) - number_of(across)) for row, rows in zip(table, other) for gap, across in zip(row, rows)
+    )
