@@ -39,7 +39,7 @@ def grown(primes, fraction):
 
 
 def raised(number, often):
-    """A number multiplied so often by itself, by squaring: there may be thousands of times."""
+    """A number to such a power, by squaring: the power may be in the thousands."""
     product = 1
     while often > 0:
         if often & 1:

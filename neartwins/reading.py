@@ -113,15 +113,14 @@ def words_of(row):
 
 
 def gathered(kinds, words):
-    """The words for each of these kinds, in lists for long ones; None where they are too few or too many."""
-    long = [kind for kind in kinds if kind in LONG_KINDS]
-    if len(words) < len(kinds) or long == [] and len(words) > len(kinds):
+    """The words for each of these kinds, those for a long one as a list; None where they are too few or too many."""
+    if len(words) < len(kinds):
         return None
-    if long == []:
-        return words
     # Only the last kind is ever a long one.
-    singles = len(kinds) - 1
-    return words[:singles] + [words[singles:]]
+    if kinds != () and kinds[-1] in LONG_KINDS:
+        singles = len(kinds) - 1
+        return words[:singles] + [words[singles:]]
+    return words if len(words) == len(kinds) else None
 
 
 def thing_read(kind, word):

@@ -28,7 +28,8 @@ STATEMENTS = (ast.ImportFrom, ast.FunctionDef, ast.ClassDef, ast.Assign)
 # The language lets some of these by, under narrow rules; the program does without, so that none of those need checking.
 UNUSED = (
     ast.Global, ast.AsyncFunctionDef, ast.AsyncFor, ast.AsyncWith, ast.Await, ast.Import, ast.Div, ast.GeneratorExp,
-    ast.SetComp, ast.Try, ast.AnnAssign, ast.NamedExpr, ast.Lambda, ast.Yield, ast.YieldFrom,
+    ast.SetComp, ast.Try, ast.AnnAssign, ast.NamedExpr, ast.Lambda, ast.Yield, ast.YieldFrom, ast.Pow,
+    ast.Match, ast.With,
 )
 
 
